@@ -315,11 +315,8 @@ func TestDecodeOfOneBitTurnedAndSummed(t *testing.T) {
 }
 
 func TestDecodeOfBytesMixedUp(t *testing.T) {
-	state := uint32(1)
-	next := func(n int) int {
-		state = state*1664525 + 1013904223
-		return int(state>>8) % n
-	}
+	d := dice(1)
+	next := d.next
 	for range 20000 {
 		body := bodyOf(someProgram())
 		for range 1 + next(3) {
