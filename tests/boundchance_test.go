@@ -335,7 +335,7 @@ func (d *dice) spoilBound(p *impl.Program) {
 			code[at] = instr(impl.OpGuard, d.number(counters), 0, int64(at)+1)
 		}
 	case 8: // a nop ahead of a head
-		if place := c.Head - d.number(3); code[place].Op != impl.OpGuard {
+		if place := max(c.Head-d.number(3), 0); code[place].Op != impl.OpGuard {
 			code[place] = instr(impl.OpNop)
 		}
 	case 9: // a call of anything
